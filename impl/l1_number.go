@@ -68,7 +68,7 @@ func IsPrime(n int) (bool, bool) {
 	if n < 0 || n > MaxModulus {
 		return false, false
 	}
-	return n >= 2 && passesAllBases(n), true
+	return isPrime(n), true
 }
 
 // FactorOf returns the factorisation of n in 1..MaxModulus into powers of primes, with increasing primes and positive exponents; it is empty for 1.
@@ -81,7 +81,7 @@ func FactorOf(n int) ([]PrimePower, bool) {
 
 // PrimitiveRoot returns the least positive residue whose powers are all residues other than 0 modulo a prime p.
 func PrimitiveRoot(p int) (int, bool) {
-	if prime, _ := IsPrime(p); !prime {
+	if !isPrime(p) {
 		return 0, false
 	}
 	factors := factorsOf(p - 1)
@@ -95,7 +95,7 @@ func PrimitiveRoot(p int) (int, bool) {
 
 // LegendreOf returns 0 if the residue a is 0, 1 if it is another square modulo the odd prime p, and -1 otherwise.
 func LegendreOf(a int, p int) (int, bool) {
-	if prime, _ := IsPrime(p); !prime || p == 2 || !isResidue(a, p) {
+	if !isPrime(p) || p == 2 || !isResidue(a, p) {
 		return 0, false
 	}
 	// By Euler's criterion this power is 0, 1 or p - 1.
@@ -182,6 +182,11 @@ func raise(a int, e int, m int) int {
 		square = square * square % m
 	}
 	return result
+}
+
+// isPrime reports whether n is a prime that is a permitted modulus.
+func isPrime(n int) bool {
+	return isModulus(n) && passesAllBases(n)
 }
 
 // passesAllBases is the Miller-Rabin test of n in 2..MaxModulus. It is exact: the least composite number that passes for the bases 2, 3, 5 and 7 is 3215031751. Trial division would be too slow for the layers that check the primes of a group at each call.
