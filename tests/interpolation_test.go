@@ -140,7 +140,7 @@ func checkInterpolated(t *testing.T, q int, f []int, xs []int, others []int) {
 	}
 }
 
-// TestInterpolationOfSmallModuli takes all polynomials and all points: each list of values belongs to one of the polynomials, so that all values are tried, too.
+// TestInterpolationOfSmallModuli takes all polynomials with up to three coefficients and all lists of up to three points: each list of values belongs to one of the polynomials, so that all values are tried, too.
 func TestInterpolationOfSmallModuli(t *testing.T) {
 	for _, q := range smallPrimes {
 		for _, xs := range allPoints(q) {

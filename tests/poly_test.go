@@ -9,9 +9,9 @@ import (
 )
 
 // Promise 5: values of sums and products are sums and products of values, and interpolation inverts evaluation.
-// The expected values are sums of powers by big integers, and for small moduli the only polynomial, of all of them, that has the wanted values.
+// The expected values are sums of products and of powers by big integers.
 
-// smallPrimes are moduli for which all short polynomials and all lists of points can be tried.
+// smallPrimes are moduli for which all polynomials with few coefficients and all lists of points can be tried.
 var smallPrimes = []int{2, 3, 5}
 
 // fieldPrimes are moduli of all sizes up to the greatest one: some with fewer residues than MaxList, and 23 and 29 next to it.
