@@ -121,8 +121,8 @@ func pairsOf(a []int, b []int) []intPair {
 	return pairs
 }
 
-// fold combines start with the terms from the left. It is generic so that lists of numbers and lists of pairs are reduced by the same loop.
-func fold[T any](start int, step func(int, T) int, terms ...T) int {
+// fold combines start with the terms from the left. It is generic so that lists of numbers, of pairs and of ciphertexts are reduced by the same loop.
+func fold[R any, T any](start R, step func(R, T) R, terms ...T) R {
 	result := start
 	for _, term := range terms {
 		result = step(result, term)
