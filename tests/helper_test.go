@@ -1,6 +1,7 @@
 package tests
 
 import (
+	"fmt"
 	"math"
 	"slices"
 	"testing"
@@ -73,5 +74,43 @@ func checkNoList[T any](t *testing.T, name string, got []T, ok bool) {
 	t.Helper()
 	if ok || len(got) != 0 {
 		t.Errorf("%s = %v, %v; want no elements, false", name, got, ok)
+	}
+}
+
+// outcome is what a call returned: whether its last result is true, and whether all other results are zero.
+type outcome struct {
+	ok   bool
+	zero bool
+	text string
+}
+
+// outcomeOf returns the outcome of a call with two results.
+func outcomeOf[T any](x T, ok bool) outcome {
+	var zero T
+	return outcome{ok: ok, zero: same(x, zero), text: fmt.Sprint(x)}
+}
+
+// tableCall is a function of a table of all functions of a chapter: the arguments that it takes beside a group, by their names in A, and the call with them.
+type tableCall[A any] struct {
+	name string
+	uses []string
+	call func(a A) outcome
+}
+
+// checkRefused fails unless all functions that take the named argument, or all functions for "", return zero values.
+func checkRefused[A any](t *testing.T, calls []tableCall[A], use string, a A) {
+	t.Helper()
+	used := false
+	for _, f := range calls {
+		if use != "" && !slices.Contains(f.uses, use) {
+			continue
+		}
+		used = true
+		if got := f.call(a); got.ok || !got.zero {
+			t.Errorf("%s with a bad argument %s of %+v = %v, %v; want zero values", f.name, use, a, got.text, got.ok)
+		}
+	}
+	if !used {
+		t.Errorf("no function takes the argument %s", use)
 	}
 }
