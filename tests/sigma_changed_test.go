@@ -240,7 +240,7 @@ func listsOfProof(p *impl.Proof) []*[]int {
 
 // TestProofsOfOtherLengths takes one element too many or too few in each list, at each place, and lists that are empty or far too long. A missing element stands behind the list where it is cut off.
 func TestProofsOfOtherLengths(t *testing.T) {
-	for _, gr := range append(slices.Clone(sigmaGroups), largeGroups...) {
+	for _, gr := range allGroups() {
 		for _, s := range someProven(gr) {
 			for k := range 3 {
 				p := s.p
@@ -268,7 +268,7 @@ func TestProofsOfOtherLengths(t *testing.T) {
 
 // TestProofsWithListsExchanged takes the right elements in wrong lists or in another order.
 func TestProofsWithListsExchanged(t *testing.T) {
-	for _, gr := range append(slices.Clone(sigmaGroups), largeGroups...) {
+	for _, gr := range allGroups() {
 		for _, s := range someProven(gr) {
 			a, b, c := s.p.Commits, s.p.Challenges, s.p.Responses
 			for _, p := range []impl.Proof{{Commits: a, Challenges: c, Responses: b}, {Commits: b, Challenges: a, Responses: c}, {Commits: c, Challenges: b, Responses: a}, {Commits: b, Challenges: c, Responses: a}, {Commits: c, Challenges: a, Responses: b}} {
