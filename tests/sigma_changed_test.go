@@ -39,17 +39,27 @@ func isLinearProof(gr impl.Group, label string, bases [][]int, images []int, p i
 	return e == wantChallenge(gr, label, slices.Concat(slices.Concat(bases...), images, p.Commits)...)
 }
 
-// isOneOfProof reports whether a proof of one of several statements is right.
-func isOneOfProof(gr impl.Group, label string, l []impl.EqualLog, p impl.Proof) bool {
+// fulfilsOneOf reports whether a proof of one of several statements has the right form and fulfils the equations of each statement, for challenges of any sum.
+func fulfilsOneOf(gr impl.Group, l []impl.EqualLog, p impl.Proof) bool {
 	if !haveForm(gr, p, 2*len(l), len(l), len(l)) {
 		return false
 	}
-	sum := 0
 	for i, s := range l {
 		a, b, c, z := p.Commits[2*i], p.Commits[2*i+1], p.Challenges[i], p.Responses[i]
 		if wantPower(s.G1, z, gr.P) != wantProduct(gr, []int{a, s.Y1}, []int{1, c}) || wantPower(s.G2, z, gr.P) != wantProduct(gr, []int{b, s.Y2}, []int{1, c}) {
 			return false
 		}
+	}
+	return true
+}
+
+// isOneOfProof reports whether a proof of one of several statements is right.
+func isOneOfProof(gr impl.Group, label string, l []impl.EqualLog, p impl.Proof) bool {
+	if !fulfilsOneOf(gr, l, p) {
+		return false
+	}
+	sum := 0
+	for _, c := range p.Challenges {
 		sum += c
 	}
 	return sum%gr.Q == wantChallenge(gr, label, append(componentsOf(l), p.Commits...)...)

@@ -61,7 +61,7 @@ func memoryOf(a sigmaArgs) []int {
 }
 
 // callSafely returns the outcome of a call and fails if it panics. The texts of long arguments are made only then.
-func callSafely(t *testing.T, f tableCall[sigmaArgs], a sigmaArgs) (got outcome) {
+func callSafely[A any](t *testing.T, f tableCall[A], a A) (got outcome) {
 	t.Helper()
 	defer func() {
 		if r := recover(); r != nil {
