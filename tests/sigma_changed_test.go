@@ -205,40 +205,59 @@ func (s proven) checkReplaced(t *testing.T, change string, list int, others func
 	}
 }
 
+// checkCommits takes other commits.
+func (s proven) checkCommits(t *testing.T) {
+	t.Helper()
+	s.checkReplaced(t, "another commit", 0, func(x int) []int {
+		return slices.Concat(someElements(s.gr)[:8], notElements(s.gr), []int{x + s.gr.P, x - s.gr.P, s.gr.P - x, -x})
+	})
+}
+
 func TestChangedCommits(t *testing.T) {
 	for _, gr := range allGroups() {
 		for _, s := range someProven(gr) {
-			s.checkReplaced(t, "another commit", 0, func(x int) []int {
-				return slices.Concat(someElements(gr)[:8], notElements(gr), []int{x + gr.P, x - gr.P, gr.P - x, -x})
-			})
+			s.checkCommits(t)
 		}
 	}
+}
+
+// checkChallenges takes other challenges.
+func (s proven) checkChallenges(t *testing.T) {
+	t.Helper()
+	s.checkReplaced(t, "another challenge", 1, func(c int) []int {
+		return slices.Concat(someExponents(s.gr), notExponents(s.gr), []int{c + s.gr.Q, c - s.gr.Q, (c + 1) % s.gr.Q, -c})
+	})
 }
 
 func TestChangedChallenges(t *testing.T) {
 	for _, gr := range allGroups() {
 		for _, s := range someProven(gr) {
-			s.checkReplaced(t, "another challenge", 1, func(c int) []int {
-				return slices.Concat(someExponents(gr), notExponents(gr), []int{c + gr.Q, c - gr.Q, (c + 1) % gr.Q, -c})
-			})
+			s.checkChallenges(t)
 		}
 	}
+}
+
+// checkResponses takes other responses.
+func (s proven) checkResponses(t *testing.T) {
+	t.Helper()
+	q := s.gr.Q
+	for i, z := range s.p.Responses {
+		p := s.p
+		for _, other := range slices.Concat(someExponents(s.gr), []int{(z + 1) % q, (z + q - 1) % q}) {
+			p.Responses = replaced(s.p.Responses, i, other)
+			s.checkAny(t, "another response", p)
+			if other != z && !s.free[i] {
+				s.checkWrong(t, "another response", p)
+			}
+		}
+	}
+	s.checkReplaced(t, "no exponent as a response", 2, func(z int) []int { return append(notExponents(s.gr), z+q, z-q) })
 }
 
 func TestChangedResponses(t *testing.T) {
 	for _, gr := range allGroups() {
 		for _, s := range someProven(gr) {
-			for i, z := range s.p.Responses {
-				p := s.p
-				for _, other := range slices.Concat(someExponents(gr), []int{(z + 1) % gr.Q, (z + gr.Q - 1) % gr.Q}) {
-					p.Responses = replaced(s.p.Responses, i, other)
-					s.checkAny(t, "another response", p)
-					if other != z && !s.free[i] {
-						s.checkWrong(t, "another response", p)
-					}
-				}
-			}
-			s.checkReplaced(t, "no exponent as a response", 2, func(z int) []int { return append(notExponents(gr), z+gr.Q, z-gr.Q) })
+			s.checkResponses(t)
 		}
 	}
 }
@@ -248,52 +267,62 @@ func listsOfProof(p *impl.Proof) []*[]int {
 	return []*[]int{&p.Commits, &p.Challenges, &p.Responses}
 }
 
-// TestProofsOfOtherLengths takes one element too many or too few in each list, at each place, and lists that are empty or far too long. A missing element stands behind the list where it is cut off.
+// checkLengths takes one element too many or too few in each list, at each place, and lists that are empty or far too long. A missing element stands behind the list where it is cut off.
+func (s proven) checkLengths(t *testing.T) {
+	t.Helper()
+	for k := range 3 {
+		p := s.p
+		list := listsOfProof(&p)[k]
+		right := *list
+		for i := range right {
+			*list = removed(right, i)
+			s.checkWrong(t, "one element too few", p)
+		}
+		for i := range len(right) + 1 {
+			for _, x := range []int{0, 1, right[len(right)-1]} {
+				*list = inserted(right, i, x)
+				s.checkWrong(t, "one element too many", p)
+			}
+		}
+		for _, other := range [][]int{nil, right[:len(right)-1], append(slices.Clone(right), right...), append(slices.Clone(right), repeated(1, maxList)...), repeated(1, maxList+1), repeated(1, 1000)} {
+			*list = other
+			s.checkWrong(t, "a list of another length", p)
+		}
+	}
+	s.checkWrong(t, "no elements", impl.Proof{})
+}
+
 func TestProofsOfOtherLengths(t *testing.T) {
 	for _, gr := range allGroups() {
 		for _, s := range someProven(gr) {
-			for k := range 3 {
-				p := s.p
-				list := listsOfProof(&p)[k]
-				right := *list
-				for i := range right {
-					*list = removed(right, i)
-					s.checkWrong(t, "one element too few", p)
-				}
-				for i := range len(right) + 1 {
-					for _, x := range []int{0, 1, right[len(right)-1]} {
-						*list = inserted(right, i, x)
-						s.checkWrong(t, "one element too many", p)
-					}
-				}
-				for _, other := range [][]int{nil, right[:len(right)-1], append(slices.Clone(right), right...), append(slices.Clone(right), repeated(1, maxList)...), repeated(1, maxList+1), repeated(1, 1000)} {
-					*list = other
-					s.checkWrong(t, "a list of another length", p)
-				}
-			}
-			s.checkWrong(t, "no elements", impl.Proof{})
+			s.checkLengths(t)
 		}
 	}
 }
 
-// TestProofsWithListsExchanged takes the right elements in wrong lists or in another order.
+// checkExchanged takes the right elements in wrong lists or in another order.
+func (s proven) checkExchanged(t *testing.T) {
+	t.Helper()
+	a, b, c := s.p.Commits, s.p.Challenges, s.p.Responses
+	for _, p := range []impl.Proof{{Commits: a, Challenges: c, Responses: b}, {Commits: b, Challenges: a, Responses: c}, {Commits: c, Challenges: b, Responses: a}, {Commits: b, Challenges: c, Responses: a}, {Commits: c, Challenges: a, Responses: b}} {
+		s.checkAny(t, "lists exchanged", p)
+	}
+	for k := range 3 {
+		p := s.p
+		list := listsOfProof(&p)[k]
+		right := *list
+		*list = slices.Clone(right)
+		slices.Reverse(*list)
+		s.checkAny(t, "a list reversed", p)
+		*list = append(slices.Clone(right[1:]), right[0])
+		s.checkAny(t, "a list shifted", p)
+	}
+}
+
 func TestProofsWithListsExchanged(t *testing.T) {
 	for _, gr := range allGroups() {
 		for _, s := range someProven(gr) {
-			a, b, c := s.p.Commits, s.p.Challenges, s.p.Responses
-			for _, p := range []impl.Proof{{Commits: a, Challenges: c, Responses: b}, {Commits: b, Challenges: a, Responses: c}, {Commits: c, Challenges: b, Responses: a}, {Commits: b, Challenges: c, Responses: a}, {Commits: c, Challenges: a, Responses: b}} {
-				s.checkAny(t, "lists exchanged", p)
-			}
-			for k := range 3 {
-				p := s.p
-				list := listsOfProof(&p)[k]
-				right := *list
-				*list = slices.Clone(right)
-				slices.Reverse(*list)
-				s.checkAny(t, "a list reversed", p)
-				*list = append(slices.Clone(right[1:]), right[0])
-				s.checkAny(t, "a list shifted", p)
-			}
+			s.checkExchanged(t)
 		}
 	}
 }
