@@ -160,10 +160,8 @@ func TestGamesOfAllPolys(t *testing.T) {
 	fault := faultsOf([4]int{2, 1, 4, 1})
 	for _, f := range listsIn(11, 2) {
 		for _, g := range listsIn(11, 2) {
-			if (f[0]+g[1])%3 == 0 {
-				checkGame(t, exampleGroup, [][]int{f, g}, nil)
-				checkGame(t, exampleGroup, [][]int{f, g}, fault)
-			}
+			checkGame(t, exampleGroup, [][]int{f, g}, nil)
+			checkGame(t, exampleGroup, [][]int{f, g}, fault)
 		}
 		checkGame(t, exampleGroup, [][]int{f[:1], f[1:]}, nil)
 		checkGame(t, exampleGroup, [][]int{f[:1], f[1:]}, fault)
@@ -172,7 +170,7 @@ func TestGamesOfAllPolys(t *testing.T) {
 
 // TestGamesWithAllPairsOfFaults takes all pairs of faults of two dealers.
 func TestGamesWithAllPairsOfFaults(t *testing.T) {
-	faults := slices.DeleteFunc(allFaults(2), func(f impl.Fault) bool { return !slices.Contains([]int{0, 1, 4, 10}, f.Delta) })
+	faults := allFaults(2)
 	for _, polys := range [][][]int{{{3, 1}, {4, 2}}, {{3}, {4}}} {
 		for _, first := range faults {
 			checkGame(t, exampleGroup, polys, []impl.Fault{first})
